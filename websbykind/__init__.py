@@ -1,0 +1,1 @@
+"""Websbykind: webs counted up to naming."""

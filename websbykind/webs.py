@@ -1,0 +1,96 @@
+"""Webs, turns of their places, and the rounds of turns."""
+
+from websbykind.errors import NoTurn, NoWeb
+from websbykind.whole import is_whole, is_within, must_be_within
+
+MOST_PLACES = 6
+
+
+def is_web(thing):
+    """Whether anything is a web: (many, ties)."""
+    if not isinstance(thing, tuple) or len(thing) != 2:
+        return False
+    many, ties = thing
+    if not is_within(many, 1, MOST_PLACES) or not isinstance(ties, tuple):
+        return False
+    # Only ties surely compare with one another, so their order is asked last.
+    return all([is_tie(many, tie) for tie in ties]) and is_rising(ties)
+
+
+def is_tie(many, thing):
+    """Whether anything is a tie (a, b) of two of so many places, a less than b."""
+    if not isinstance(thing, tuple) or len(thing) != 2:
+        return False
+    return all([is_within(place, 0, many - 1) for place in thing]) and thing[0] < thing[1]
+
+
+def is_rising(things):
+    """Whether each of the things is greater than the one ahead."""
+    return all([things[at - 1] < things[at] for at in range(1, len(things))])
+
+
+def must_be_web(web):
+    """Refuse, with NoWeb, what is no web."""
+    if not is_web(web):
+        raise NoWeb("no web")
+
+
+def is_turn(many, thing):
+    """Whether anything is a turn of so many names: each of 0 to many - 1 once."""
+    must_be_within(many, 1, MOST_PLACES)
+    if not isinstance(thing, tuple) or not all([is_whole(name) for name in thing]):
+        return False
+    return sorted(thing) == list(range(many))
+
+
+def must_be_turn(many, turn):
+    """Refuse, with NoNumber or NoTurn, what is no turn of so many names."""
+    if not is_turn(many, turn):
+        raise NoTurn(f"no turn of {many}")
+
+
+def turned(web, turn):
+    """The web with each tie (a, b) led to the tie of turn[a] and turn[b]."""
+    must_be_web(web)
+    many, ties = web
+    must_be_turn(many, turn)
+    return (many, tuple(sorted([tie_of(turn[a], turn[b]) for a, b in ties])))
+
+
+def tie_of(a, b):
+    """The tie of two places, the lesser one ahead."""
+    return (min(a, b), max(a, b))
+
+
+def behind(many, one, other):
+    """The turn that does the one and then the other."""
+    must_be_turn(many, one)
+    must_be_turn(many, other)
+    return tuple([other[name] for name in one])
+
+
+def back(many, turn):
+    """The turn that leads back."""
+    must_be_turn(many, turn)
+    return tuple([turn.index(name) for name in range(many)])
+
+
+def rounds_of(many, turn):
+    """The rounds of a turn, a rising list of tuples, each from its least number on."""
+    must_be_turn(many, turn)
+    found = [round_from(turn, start) for start in range(many)]
+    # Each round was found from every one of its numbers: the least one's is kept.
+    return [names for names in found if names[0] == min(names)]
+
+
+def round_from(turn, start):
+    """The round of a turn that begins with start."""
+    names = [start]
+    while turn[names[-1]] != start:
+        names.append(turn[names[-1]])
+    return tuple(names)
+
+
+def kind_of(many, turn):
+    """How many numbers are in each round of a turn, none greater than the one ahead."""
+    return tuple(sorted([len(names) for names in rounds_of(many, turn)], reverse=True))
