@@ -1,29 +1,13 @@
 """[14] kinds of turns of so many."""
 
 import collections
-import inspect
 import itertools
 import unittest
 
-from tests.things import Refusals, all_turns, anything, no_numbers
-from websbykind import kinds
+from tests.things import Refusals, all_turns, kinds_by_cuts, no_kinds_at_all, no_numbers
 from websbykind.errors import NoKind, NoNumber
 from websbykind.kinds import all_kinds, is_kind, turns_many
 from websbykind.webs import kind_of
-
-
-def kinds_by_cuts(many):
-    """The kinds of so many, got by cutting a row of so many wherever it may be cut."""
-    found = set()
-    for cuts in itertools.product([False, True], repeat=many - 1):
-        lengths = [1]
-        for cut in cuts:
-            if cut:
-                lengths.append(1)
-            else:
-                lengths[-1] += 1
-        found.add(tuple(sorted(lengths, reverse=True)))
-    return sorted(found)
 
 
 def kinds_by_names(many):
@@ -38,27 +22,6 @@ def kinds_by_names(many):
                 grown[tuple(sorted(longer, reverse=True))] += turns * length
         found = grown
     return dict(found)
-
-
-def no_kinds(many):
-    """What is no kind of so many, from near to far."""
-    return [
-        (), (0,), (many, 0), (0, many), (many + 1,), (many - 1,), (many, 1), (many + 1, -1), (-many,), (-1, many + 1),
-        (True,) * many, (many - 1, True), (1,) * (many + 1), (1,) * (many - 1), [many], [1] * many,
-        (str(many),), str(many), many, {many: 1}, ((many,),), ([many],), ({},), (None,), (many, None), (many, []),
-        (many, ""), (10 ** 30 - 1,), (10 ** 30 - 1, many - 10 ** 30 + 1), (1, many),
-    ] + [(1, many - 1)] * (many > 2)
-
-
-def no_kinds_at_all(many):
-    return no_kinds(many) + anything()
-
-
-class Interface(unittest.TestCase):
-    def test_names_and_arguments(self):
-        wanted = {"is_kind": ["many", "thing"], "all_kinds": ["many"], "turns_many": ["many", "kind"]}
-        for name, arguments in wanted.items():
-            self.assertEqual(list(inspect.signature(getattr(kinds, name)).parameters), arguments)
 
 
 class IsKind(Refusals, unittest.TestCase):

@@ -84,6 +84,30 @@ def values_of_objects(trees):
     return found
 
 
+def drawn_files(path):
+    """The files of the package that a file draws from."""
+    return [row.module.split(".")[1] + ".py" for row in parsed(path).body if isinstance(row, ast.ImportFrom)]
+
+
+def with_parents(tree):
+    """Every node of a tree with the one that it stands in."""
+    for parent in ast.walk(tree):
+        for node in ast.iter_child_nodes(parent):
+            yield node, parent
+
+
+def called(node):
+    """The name or the method that a node calls, "" where it calls none."""
+    if not isinstance(node, ast.Call):
+        return ""
+    return node.func.id if isinstance(node.func, ast.Name) else "." + node.func.attr
+
+
+def is_walked(node, parent):
+    """Whether a node stands behind the in of a loop, or of a question."""
+    return isinstance(parent, (ast.For, ast.comprehension)) and parent.iter is node or isinstance(parent, ast.Compare)
+
+
 def is_docstring(row):
     return isinstance(row, ast.Expr) and isinstance(row.value, ast.Constant) and isinstance(row.value.value, str)
 
@@ -128,6 +152,32 @@ class Language(unittest.TestCase):
                 for alias in node.names:
                     self.assertIn(alias.name, drawn, where)
 
+    def test_no_two_files_draw_from_one_another(self):
+        waiting = {path.name: drawn_files(path) for path in package_files()}
+        while waiting:
+            free = [name for name, drawn in waiting.items() if not any(other in waiting for other in drawn)]
+            self.assertTrue(free, sorted(waiting))
+            for name in free:
+                del waiting[name]
+
+    def test_walked_at_once(self):
+        walkers = ["list", "tuple", "dict", "sorted", "sum", "any", "all", "enumerate", "zip", "bytes", "min", "max",
+                   ".join"]
+        for path in package_files():
+            for node, parent in with_parents(parsed(path)):
+                if called(node) in ["zip", "enumerate", "reversed", "range", ".items", ".keys", ".values"]:
+                    self.assertTrue(is_walked(node, parent) or called(parent) in walkers, (path.name, node.lineno))
+
+    def test_sets(self):
+        for path in package_files():
+            for node, parent in with_parents(parsed(path)):
+                if isinstance(node, (ast.Set, ast.SetComp)) or called(node) == "set":
+                    asked = isinstance(parent, ast.Compare) or called(parent) in ["sorted", "len"]
+                    kept = isinstance(parent, ast.Assign) and isinstance(parent.targets[0], ast.Name)
+                    self.assertTrue(asked or kept, (path.name, node.lineno))
+                if isinstance(node, (ast.For, ast.comprehension)):
+                    self.assertNotIsInstance(node.iter, (ast.Set, ast.SetComp), path.name)
+
     def test_defs(self):
         for node, where in self.each_node():
             if isinstance(node, ast.FunctionDef):
@@ -154,6 +204,9 @@ class Language(unittest.TestCase):
                 self.assertFalse(isinstance(node.value, str) and "%" in node.value, where)
             elif isinstance(node, ast.FormattedValue):
                 self.assertIsNone(node.format_spec, where)
+            elif isinstance(node, ast.Call):
+                self.assertFalse(any(isinstance(given, ast.Starred) for given in node.args), where)
+                self.assertFalse(any(given.arg is None for given in node.keywords), where)
             elif isinstance(node, ast.BinOp) and isinstance(node.op, ast.Pow):
                 self.assertIsInstance(node.right, ast.Constant, where)
 
@@ -180,6 +233,16 @@ class Language(unittest.TestCase):
                     self.assertRegex(name, r"^[A-Za-z][A-Za-z0-9_]*$", (path.name, row))
                     self.assertNotIn(name, dir(builtins), (path.name, row))
                     self.assertNotIn(name, NAMES_NOT_USED, (path.name, row))
+
+    def test_no_local_is_called_like_an_import_or_a_class(self):
+        for path in package_files():
+            tree = parsed(path)
+            drawn = [alias.name for row in tree.body if isinstance(row, ast.ImportFrom) for alias in row.names]
+            classes = [row.name for row in tree.body if isinstance(row, ast.ClassDef)]
+            for top in tree.body:
+                for name, row in names_given(top):
+                    if row > top.lineno or not isinstance(top, ast.ClassDef):
+                        self.assertNotIn(name, drawn + classes, (path.name, row))
 
     def test_names_of_pythons_own(self):
         for node, where in self.each_node():

@@ -1,52 +1,11 @@
 """[11] webs, [12] turns, [13] rounds and kinds of a turn."""
 
-import inspect
 import unittest
 
-from tests.things import Refusals, all_pairs, all_turns, all_webs, anything, no_numbers
-from websbykind import webs
+from tests.things import (
+    NO_WEBS, Refusals, all_pairs, all_turns, all_webs, anything, no_numbers, no_turns_at_all, no_webs)
 from websbykind.errors import NoNumber, NoTurn, NoWeb
 from websbykind.webs import back, behind, is_turn, is_web, kind_of, rounds_of, turned
-
-NO_WEBS = [
-    (0, ()), (7, ()), (-1, ()), (True, ()), (False, ()), (10 ** 30 - 1, ()),
-    (3, ((0, 2), (0, 1))), (3, ((1, 2), (0, 2))), (3, ((0, 1), (0, 1))), (3, ((0, 1), (1, 2), (0, 2))),
-    (3, ((0, 1), (1, 2), (1, 2))),
-    (3, ((1, 0),)), (3, ((0, 1), (2, 1))), (3, ((1, 1),)), (3, ((0, 0),)), (1, ((0, 0),)),
-    (3, ((0, 3),)), (3, ((3, 4),)), (3, ((-1, 0),)), (1, ((0, 1),)), (6, ((0, 6),)), (6, ((-1, 5),)),
-    (3, ((False, True),)), (3, ((0, True),)), (3, ((False, 1),)), (3, ((True, 2),)),
-    [3, ((0, 1),)], (3, [(0, 1)]), (3, ([0, 1],)), (3, ((0, 1), [0, 2])), (3, ()) + ((),),
-    (3,), (3, (), ()), (), ((0, 1), 3), (3, (0, 1)), (3, ((0, 1, 2),)), (3, ((0,),)), (3, ((),)),
-    (3, ((0, 1), ())), (3, (((0, 1),),)), (3, ((0, 1), (0, 2, 1))),
-    3, "3", "3: 0-1", {3: ((0, 1),)}, ((3, ((0, 1),)),), ("3", ()), (3, ""), (3, None), (3, {}), (3, {(0, 1): 1}),
-]
-
-
-def no_turns(many):
-    """What is no turn of so many, from near to far."""
-    names = tuple(range(many))
-    return [
-        names + (many,), names + (0,), names[1:], names[:-1], tuple(name + 1 for name in names),
-        (0,) * (many + 1), names[:-1] + (-1,), names[:-1] + (many,), names[:-1] + (str(many - 1),),
-        names[:-1] + (None,), names[:-1] + ([many - 1],), names[:-1] + ({},), names[:-1] + ((many - 1,),),
-        (False,) + names[1:], list(names), {name: name for name in names}, "".join(str(name) for name in names),
-        (names,), [names], (),
-    ] + [(0,) * many, names[:-1] + (names[-2:-1] or (1,)), (0, True) + names[2:]][:3 if many > 1 else 0]
-
-
-def no_turns_at_all(many):
-    return no_turns(many) + anything()
-
-
-class Interface(unittest.TestCase):
-    def test_names_and_arguments(self):
-        wanted = {
-            "is_web": ["thing"], "is_turn": ["many", "thing"], "turned": ["web", "turn"],
-            "behind": ["many", "one", "other"], "back": ["many", "turn"], "rounds_of": ["many", "turn"],
-            "kind_of": ["many", "turn"],
-        }
-        for name, arguments in wanted.items():
-            self.assertEqual(list(inspect.signature(getattr(webs, name)).parameters), arguments)
 
 
 class Webs(Refusals, unittest.TestCase):
@@ -134,7 +93,7 @@ class Turned(Refusals, unittest.TestCase):
                 self.assertEqual(len(found[1]), len(web[1]))
 
     def test_no_web_goes_ahead(self):
-        for web in NO_WEBS + anything():
+        for web in no_webs():
             for turn in [(0, 1, 2), (0,), (0, 0), None, [0], {}, ([], {})]:
                 self.refused(NoWeb, turned, web, turn)
 
@@ -190,15 +149,7 @@ class BehindAndBack(Refusals, unittest.TestCase):
                 self.refused(NoTurn, behind, many, turn, turn)
 
     def test_the_first_turn_is_looked_at_first(self):
-        # Both refusals are of one class, so the row of behind that asks is looked at.
-        def refusing_row(one, other):
-            try:
-                behind(2, one, other)
-            except NoTurn as refusal:
-                return refusal.__traceback__.tb_next.tb_lineno
-
-        self.assertEqual(refusing_row((0, 0), (1, 1)), refusing_row((0, 0), (0, 1)))
-        self.assertLess(refusing_row((0, 0), (1, 1)), refusing_row((0, 1), (1, 1)))
+        self.first_goes_ahead(behind, (2, (0, 0), (1, 1)), (2, (0, 0), (0, 1)), (2, (0, 1), (1, 1)))
 
 
 class Rounds(Refusals, unittest.TestCase):

@@ -52,14 +52,28 @@ def must_be_turn(many, turn):
 def turned(web, turn):
     """The web with each tie (a, b) led to the tie of turn[a] and turn[b]."""
     must_be_web(web)
+    must_be_turn(web[0], turn)
+    return led_on(web, turn)
+
+
+def led_on(web, turn):
+    """The web turned, where it is known to be one, and the turn one of its places."""
     many, ties = web
-    must_be_turn(many, turn)
     return (many, tuple(sorted([tie_of(turn[a], turn[b]) for a, b in ties])))
 
 
 def tie_of(a, b):
     """The tie of two places, the lesser one ahead."""
-    return (min(a, b), max(a, b))
+    return (a, b) if a < b else (b, a)
+
+
+def tied_places(many, ties):
+    """For each of so many places the list of those tied to it."""
+    tied = [[] for place in range(many)]
+    for a, b in ties:
+        tied[a].append(b)
+        tied[b].append(a)
+    return tied
 
 
 def behind(many, one, other):
@@ -78,17 +92,22 @@ def back(many, turn):
 def rounds_of(many, turn):
     """The rounds of a turn, a rising list of tuples, each from its least number on."""
     must_be_turn(many, turn)
-    found = [round_from(turn, start) for start in range(many)]
-    # Each round was found from every one of its numbers: the least one's is kept.
-    return [names for names in found if names[0] == min(names)]
+    return rounds_along(turn, list(range(many)))
 
 
-def round_from(turn, start):
-    """The round of a turn that begins with start."""
-    names = [start]
-    while turn[names[-1]] != start:
-        names.append(turn[names[-1]])
-    return tuple(names)
+def rounds_along(leads, starts):
+    """The rounds in which each of the rising starts leads on, a rising list of tuples."""
+    found = [round_from(leads, start) for start in starts]
+    # Each round was found from every one of its things: the least one's is kept.
+    return [things for things in found if things[0] == min(things)]
+
+
+def round_from(leads, start):
+    """The round that begins with start, each next thing the one that the thing ahead leads to."""
+    things = [start]
+    while leads[things[-1]] != start:
+        things.append(leads[things[-1]])
+    return tuple(things)
 
 
 def kind_of(many, turn):

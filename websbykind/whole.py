@@ -18,3 +18,11 @@ def must_be_within(thing, least, most):
     """Refuse, with NoNumber, what is no whole number from least to most."""
     if not is_within(thing, least, most):
         raise NoNumber(f"no whole number from {least} to {most}")
+
+
+def times_itself(number, often):
+    """The number, so often taken by itself; 1 where it is taken not once."""
+    product = 1
+    for step in range(often):
+        product *= number
+    return product

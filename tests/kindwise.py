@@ -1,0 +1,38 @@
+"""Kinds of webs of few places, found by going through all webs: what reckoned counts are held against."""
+
+import functools
+
+from tests.things import all_webs
+from websbykind.webs import turned
+
+
+@functools.cache
+def one_of_each_kind(many):
+    """One web of each kind of so many places, from none of the forms that the program tells."""
+    # Every turn comes of these two, done one behind the other.
+    swap = (1, 0) + tuple(range(2, many)) if many > 1 else (0,)
+    wheel = tuple(range(1, many)) + (0,)
+    seen = set()
+    found = []
+    for web in all_webs(many):
+        if web not in seen:
+            found.append(web)
+            spread([web], seen, [swap, wheel])
+    return found
+
+
+def spread(waiting, seen, turns):
+    """All webs to which the turns lead from those waiting are seen."""
+    while waiting:
+        web = waiting.pop()
+        if web not in seen:
+            seen.add(web)
+            waiting += [turned(web, turn) for turn in turns]
+
+
+def by_ties(many, webs):
+    """The list, at place k, how many of the webs have k ties, up to all pairs."""
+    counted = [0] * (many * (many - 1) // 2 + 1)
+    for web in webs:
+        counted[len(web[1])] += 1
+    return counted

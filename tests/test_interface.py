@@ -1,0 +1,44 @@
+"""The interface: every name of what has landed, with its arguments."""
+
+import importlib
+import inspect
+import unittest
+
+WANTED = {
+    "webs": {
+        "is_web": ["thing"], "is_turn": ["many", "thing"], "turned": ["web", "turn"],
+        "behind": ["many", "one", "other"], "back": ["many", "turn"], "rounds_of": ["many", "turn"],
+        "kind_of": ["many", "turn"],
+    },
+    "kinds": {"is_kind": ["many", "thing"], "all_kinds": ["many"], "turns_many": ["many", "kind"]},
+    "alike": {
+        "first_turn": ["web", "other"], "own_turns": ["web"], "all_alike": ["web"], "form": ["web"],
+        "alike_many": ["web"],
+    },
+    "pairs": {
+        "pair_rounds": ["many", "turn"], "stands": ["web", "turn"], "pair_lengths": ["many", "kind"],
+        "standing_many": ["many", "kind"], "standing_by_ties": ["many", "kind"], "webs_many": ["many"],
+        "webs_by_ties": ["many"],
+    },
+    "hanging": {
+        "hangs": ["web"], "parts": ["web"], "gathered": ["numbers"], "parted": ["numbers"],
+        "hanging_many": ["many"], "hanging_by_ties": ["many"],
+    },
+    "trees": {
+        "is_tree": ["web"], "middles": ["web"], "is_code": ["thing"], "code_from": ["web", "place"],
+        "tree_code": ["web"], "tree_by": ["code"], "freed": ["code"],
+    },
+}
+
+
+class Interface(unittest.TestCase):
+    def test_names_and_arguments(self):
+        for file, names in WANTED.items():
+            module = importlib.import_module("websbykind." + file)
+            for name, arguments in names.items():
+                with self.subTest(f"{file}.{name}"):
+                    self.assertEqual(list(inspect.signature(getattr(module, name)).parameters), arguments)
+
+
+if __name__ == "__main__":
+    unittest.main()
