@@ -2,7 +2,7 @@
 
 import functools
 
-from tests.things import all_webs
+from tests.things import all_turns, all_webs
 from websbykind.webs import turned
 
 
@@ -28,6 +28,12 @@ def spread(waiting, seen, turns):
         if web not in seen:
             seen.add(web)
             waiting += [turned(web, turn) for turn in turns]
+
+
+@functools.cache
+def least_turned(web):
+    """The least of all webs to which a turn leads the web."""
+    return min(turned(web, turn) for turn in all_turns(web[0]))
 
 
 def by_ties(many, webs):

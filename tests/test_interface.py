@@ -28,6 +28,15 @@ WANTED = {
         "is_tree": ["web"], "middles": ["web"], "is_code": ["thing"], "code_from": ["web", "place"],
         "tree_code": ["web"], "tree_by": ["code"], "freed": ["code"],
     },
+    "growing": {"codes_many": ["many"], "trees_many": ["many"], "all_codes": ["many"], "all_trees": ["many"]},
+    "counts": {
+        "is_counts": ["thing"], "counts_of": ["web"], "has_web": ["counts"], "is_none_paper": ["counts", "thing"],
+        "none_paper": ["counts"], "webs_with": ["counts"], "first_web": ["counts"], "kinds_with": ["counts"],
+    },
+    "forms": {
+        "all_forms": ["many"], "form_number": ["web"], "form_at": ["many", "number"], "with_more": ["web"],
+        "with_fewer": ["web"],
+    },
 }
 
 

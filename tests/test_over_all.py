@@ -1,18 +1,21 @@
-"""[3] and [4]: what holds over all of the program."""
+"""[4]: what holds over all of the program."""
 
 import collections
+import itertools
 import math
 import unittest
 
-from tests.things import Refusals, all_turns, all_webs, pieces_by_ties, some_webs
+from tests.kindwise import by_ties
+from tests.things import all_counts, all_turns, all_webs, pieces_by_ties, some_webs
 from websbykind.alike import all_alike, alike_many, first_turn, form, own_turns
-from websbykind.errors import NoCode, NoKind, NoNumber, NoNumbers, NoPlace, NoTree, NoTurn, NoWeb, TooGreat
+from websbykind.counts import counts_of, first_web, has_web, is_none_paper, kinds_with, none_paper, webs_with
+from websbykind.forms import all_forms, form_number, with_fewer, with_more
+from websbykind.growing import all_codes, all_trees, trees_many
 from websbykind.hanging import gathered, hanging_by_ties, hanging_many, hangs, parted, parts
-from websbykind.kinds import all_kinds, is_kind, turns_many
-from websbykind.pairs import (
-    pair_lengths, pair_rounds, standing_by_ties, standing_many, stands, webs_by_ties, webs_many)
-from websbykind.trees import code_from, freed, is_code, is_tree, middles, tree_by, tree_code
-from websbykind.webs import back, behind, is_turn, is_web, kind_of, rounds_of, turned
+from websbykind.kinds import all_kinds, turns_many
+from websbykind.pairs import standing_by_ties, standing_many, stands, webs_by_ties, webs_many
+from websbykind.trees import code_from, freed, is_tree, tree_by, tree_code
+from websbykind.webs import back, behind, kind_of, turned
 
 
 def turn_of_kind(kind):
@@ -201,72 +204,68 @@ class TreesAndCodes(unittest.TestCase):
             self.assertEqual(len({tree_code(web) for web in self.trees(many)}), hanging_by_ties(many)[many - 1])
 
 
-WEB = (4, ((0, 1), (1, 2), (2, 3)))
+class CodesAndForms(unittest.TestCase):
+    def test_kinds_of_trees_are_as_many_as_listed_and_as_forms_that_are_trees(self):
+        for many in range(1, 6):
+            trees = [web for web in all_forms(many) if is_tree(web)]
+            self.assertEqual(sorted(tree_code(web) for web in trees), all_trees(many))
+            self.assertEqual((len(trees), trees_many(many)), (len(all_trees(many)), len(trees)))
 
-ASKED = [
-    (is_web, (WEB,)), (is_turn, (4, (3, 1, 0, 2))), (turned, (WEB, (3, 1, 0, 2))),
-    (behind, (4, (3, 1, 0, 2), (1, 2, 3, 0))), (back, (4, (3, 1, 0, 2))), (rounds_of, (4, (3, 1, 0, 2))),
-    (kind_of, (4, (3, 1, 0, 2))), (is_kind, (9, (4, 4, 1))), (all_kinds, (9,)), (turns_many, (9, (4, 4, 1))),
-    (first_turn, (WEB, (4, ((0, 2), (0, 3), (1, 3))))), (own_turns, (WEB,)), (all_alike, (WEB,)), (form, (WEB,)),
-    (alike_many, (WEB,)), (pair_rounds, (4, (3, 1, 0, 2))), (stands, (WEB, (3, 2, 1, 0))),
-    (pair_lengths, (9, (4, 4, 1))), (standing_many, (9, (4, 4, 1))), (standing_by_ties, (9, (4, 4, 1))),
-    (webs_many, (8,)), (webs_by_ties, (8,)), (hangs, (WEB,)), (parts, ((5, ((0, 4), (1, 3))),)),
-    (gathered, ([1, 0, 2, 5],)), (parted, ([1, 2, 4, 11],)), (hanging_many, (8,)), (hanging_by_ties, (8,)),
-    (is_tree, (WEB,)), (middles, (WEB,)), (is_code, ("((())())",)), (code_from, (WEB, 1)), (tree_code, (WEB,)),
-    (tree_by, ("((())())",)), (freed, ("(((())))",)),
-]
+    def test_the_trees_of_all_codes_are_all_kinds_of_trees(self):
+        for many in range(1, 7):
+            forms = {form(tree_by(code)) for code in all_codes(many)}
+            self.assertEqual(len(forms), trees_many(many))
+            self.assertEqual({form(tree_by(code)) for code in all_trees(many)}, forms)
 
-REFUSED = [
-    (NoWeb, turned, ((4, ((1, 0),)), (0,))), (NoTurn, turned, ((4, ()), [0, 1, 2, 3])), (NoNumber, back, (7, (0,))),
-    (NoTurn, rounds_of, (4, (0, 0, 1, 2))), (NoKind, turns_many, (9, (1, 8))), (NoNumber, all_kinds, (0,)),
-    (NoWeb, first_turn, (WEB, None)), (NoTurn, stands, (WEB, [3, 2, 1, 0])), (NoNumber, webs_by_ties, (10,)),
-    (NoKind, standing_by_ties, (9, (4, 4))), (NoNumbers, gathered, ([1, -1],)), (NoNumbers, parted, ([2, 0],)),
-    (NoNumber, hanging_by_ties, (10,)), (NoTree, middles, ((4, ()),)), (NoPlace, code_from, (WEB, 4)),
-    (NoCode, freed, ("(()(()))",)), (TooGreat, tree_by, ("(((((((())))))))",)),
-]
+    def test_trees_are_the_kinds_that_hang_together_with_one_tie_less_than_places(self):
+        for many in range(1, 10):
+            self.assertEqual(trees_many(many), hanging_by_ties(many)[many - 1])
+
+    def test_forms_by_ties(self):
+        for many in range(1, 6):
+            forms = all_forms(many)
+            self.assertEqual(by_ties(many, forms), webs_by_ties(many))
+            self.assertEqual(by_ties(many, [web for web in forms if hangs(web)]), hanging_by_ties(many))
+            self.assertEqual(sum(hangs(web) for web in forms), hanging_many(many))
+            self.assertEqual([form_number(web) for web in forms], list(range(webs_many(many))))
+
+    def test_one_comes_of_another_by_a_tie_put_in_just_where_that_comes_of_it_by_one_taken_out(self):
+        for many in range(1, 6):
+            forms = all_forms(many)
+            more = {(web, other) for web in forms for other in with_more(web)}
+            fewer = {(other, web) for web in forms for other in with_fewer(web)}
+            self.assertEqual(more, fewer)
+            self.assertEqual({other for _, other in more} | {(many, ())}, set(forms))
 
 
-class NothingIsKept(Refusals, unittest.TestCase):
-    def test_a_list_that_was_told_is_the_askers_own(self):
-        lists = [(ask, given) for ask, given in ASKED if isinstance(ask(*given), list)]
-        self.assertEqual(len(lists), 11)
-        for ask, given in lists + [(all_kinds, (1,)), (webs_by_ties, (1,)), (parts, ((1, ()),)), (gathered, ([3],))]:
-            first = ask(*given)
-            wanted = list(first)
-            second = ask(*given)
-            self.assertIsNot(first, second)
-            first.append(None)
-            first.reverse()
-            self.assertEqual(second, wanted)
-            self.assertEqual(ask(*given), wanted)
-            second.clear()
-            self.assertEqual(ask(*given), wanted)
+class CountsAndForms(unittest.TestCase):
+    def test_a_web_just_where_there_is_no_paper(self):
+        for many in range(1, 8):
+            for counts in all_counts(many):
+                papers = [("odd",)] + [("much", first) for first in range(1, many + 1)]
+                shown = any(is_none_paper(counts, paper) for paper in papers)
+                self.assertEqual((none_paper(counts) is None, has_web(counts)), (not shown, not shown))
+                self.assertTrue(not shown or is_none_paper(counts, none_paper(counts)))
+                if many < 7:
+                    self.assertEqual((webs_with(counts) > 0, first_web(counts) is None), (not shown, shown))
 
-    def test_counts_stay_where_what_was_told_is_changed(self):
-        for told in [all_kinds(4), webs_by_ties(4), hanging_by_ties(4), own_turns(WEB), all_alike(WEB), parts(WEB),
-                     standing_by_ties(4, (2, 2)), pair_rounds(4, (1, 0, 2, 3))]:
-            told.clear()
-        self.assertIs(is_kind(4, (2, 2)), True)
-        self.assertEqual(turns_many(4, (2, 2)), 3)
-        self.assertEqual((webs_many(4), hanging_many(4), alike_many(WEB)), (11, 6, 12))
+    def test_the_counts_of_a_web_have_one(self):
+        for many in range(1, 7):
+            for web in some_webs(many):
+                self.assertIs(has_web(counts_of(web)), True)
+                self.assertEqual(counts_of(first_web(counts_of(web))), counts_of(web))
+                self.assertTrue(many == 6 or form(web) in kinds_with(counts_of(web)))
 
-    def test_a_list_handed_in_may_be_changed_later(self):
-        numbers = [1, 1, 2]
-        lots = gathered(numbers)
-        pieces = parted(lots)
-        numbers.clear()
-        lots_then = list(lots)
-        lots.append(9)
-        self.assertEqual(pieces, [1, 1, 2])
-        self.assertEqual(gathered([1, 1, 2]), lots_then)
+    def test_the_webs_of_all_counts_kinds_are_all_forms(self):
+        for many in range(1, 6):
+            found = [web for counts in all_counts(many) for web in kinds_with(counts)]
+            self.assertEqual(sorted(found), all_forms(many))
 
-    def test_asked_again_the_answer_is_the_same(self):
-        first = [ask(*given) for ask, given in ASKED]
-        for wanted, ask, given in REFUSED:
-            self.refused(wanted, ask, *given)
-        self.assertEqual([ask(*given) for ask, given in reversed(ASKED)], first[::-1])
-        self.assertEqual([ask(*given) for ask, given in ASKED], first)
-        self.assertEqual(WEB, (4, ((0, 1), (1, 2), (2, 3))))
+    def test_the_webs_of_all_orders_of_all_counts_are_all_webs(self):
+        for many in range(1, 7):
+            orders = {counts: len(set(itertools.permutations(counts))) for counts in all_counts(many)}
+            webs = sum(orders[counts] * webs_with(counts) for counts in all_counts(many))
+            self.assertEqual(webs, 2 ** (many * (many - 1) // 2))
 
 
 if __name__ == "__main__":

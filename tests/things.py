@@ -117,6 +117,17 @@ def all_webs(many):
     return [(many, ties) for length in range(len(pairs) + 1) for ties in itertools.combinations(pairs, length)]
 
 
+def all_counts(many):
+    """All counts of so many places, whether a web has them or none."""
+    return list(itertools.combinations_with_replacement(range(many - 1, -1, -1), many))
+
+
+def counts_by_ties(web):
+    """To how many places each place of a web is tied, in the places' order."""
+    ends = [place for tie in web[1] for place in tie]
+    return tuple(ends.count(place) for place in range(web[0]))
+
+
 def some_webs(many):
     """Webs of so many places: all of few; of many each so manieth, with those without a tie and with all."""
     webs = all_webs(many)
@@ -151,6 +162,11 @@ class Refusals:
             ask(*given)
         self.assertIs(type(caught.exception), wanted, (ask.__name__, given))
         self.assertEqual(given, before)
+        return caught.exception
+
+    def too_great(self, many, most, ask, *given):
+        refusal = self.refused(errors.TooGreat, ask, *given)
+        self.assertEqual((refusal.many, refusal.most), (many, most), (ask.__name__, given))
 
     def first_goes_ahead(self, ask, both, first, second):
         """That of two refusals of one class the first one's goes ahead: told by the row of ask that refuses."""

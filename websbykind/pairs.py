@@ -1,7 +1,7 @@
 """Turns of pairs, and webs that stand by them: so kinds of webs are counted."""
 
 from websbykind.kinds import all_kinds, must_be_kind, orders_many, turns_many
-from websbykind.webs import must_be_turn, rounds_along, tie_of, turned
+from websbykind.webs import must_be_turn, pairs_of, rounds_along, tie_of, turned
 from websbykind.whole import times_itself
 
 
@@ -13,8 +13,7 @@ def pair_rounds(many, turn):
 
 def rounds_of_pairs(turn):
     """The rounds of pairs of a turn of however many names."""
-    names = list(range(len(turn)))
-    pairs = [(a, b) for a in names for b in names[a + 1:]]
+    pairs = pairs_of(len(turn))
     return rounds_along({(a, b): tie_of(turn[a], turn[b]) for a, b in pairs}, pairs)
 
 

@@ -1,9 +1,9 @@
 """Trees, their middles and their codes."""
 
-from websbykind.errors import NoCode, NoPlace, NoTree, TooGreat
+from websbykind.errors import NoCode, NoPlace, NoTree
 from websbykind.hanging import hangs, rings_from
 from websbykind.webs import MOST_PLACES, must_be_web, tied_places
-from websbykind.whole import is_within
+from websbykind.whole import is_within, must_be_few
 
 MOST_SIGNS = 40
 
@@ -94,8 +94,7 @@ def tree_by(code):
     """The tree of a code, its places numbered as their brackets open."""
     must_be_code(code)
     many = code.count("(")
-    if many > MOST_PLACES:
-        raise TooGreat(many, MOST_PLACES)
+    must_be_few(many, MOST_PLACES)
     return (many, tuple(sorted(ties_by(code))))
 
 

@@ -67,6 +67,11 @@ def tie_of(a, b):
     return (a, b) if a < b else (b, a)
 
 
+def pairs_of(many):
+    """All pairs (a, b) of so many places, a less than b, a rising list."""
+    return [(a, b) for a in range(many) for b in range(a + 1, many)]
+
+
 def tied_places(many, ties):
     """For each of so many places the list of those tied to it."""
     tied = [[] for place in range(many)]

@@ -1,6 +1,6 @@
 """Whole numbers, as every part of the program asks for them."""
 
-from websbykind.errors import NoNumber
+from websbykind.errors import NoNumber, TooGreat
 
 
 def is_whole(thing):
@@ -18,6 +18,12 @@ def must_be_within(thing, least, most):
     """Refuse, with NoNumber, what is no whole number from least to most."""
     if not is_within(thing, least, most):
         raise NoNumber(f"no whole number from {least} to {most}")
+
+
+def must_be_few(many, most):
+    """Refuse, with TooGreat, more than most."""
+    if many > most:
+        raise TooGreat(many, most)
 
 
 def times_itself(number, often):
