@@ -1,6 +1,7 @@
 """Kinds of webs of few places, found by going through all webs: what reckoned counts are held against."""
 
 import functools
+import math
 
 from tests.things import all_turns, all_webs
 from websbykind.webs import turned
@@ -42,3 +43,22 @@ def by_ties(many, webs):
     for web in webs:
         counted[len(web[1])] += 1
     return counted
+
+
+def lengths_of_pairs(kind):
+    """How many pairs are in each round of pairs of a turn that has the kind, by the lengths of its rounds alone."""
+    lengths = []
+    for at, one in enumerate(kind):
+        # Within a round pairs are as far apart as they go: half of it is a round half as long.
+        lengths += [one] * ((one - 1) // 2) + [one // 2] * (one % 2 == 0)
+        for other in kind[:at]:
+            lengths += [math.lcm(one, other)] * math.gcd(one, other)
+    return lengths
+
+
+def turns_with(kind):
+    """How many turns have a kind: all orders, for each beginning of its rounds and each order of like ones."""
+    many = math.factorial(sum(kind))
+    for length in set(kind):
+        many //= length ** kind.count(length) * math.factorial(kind.count(length))
+    return many

@@ -26,12 +26,12 @@ NO_COUNTS = [
 # Truths, and what looks as a paper does but is none of any counts at all.
 NO_PAPERS = [
     None, True, False, 0, 1, "", "odd", "much", (), (None,), (True,), ("odd",) * 2, ("odd", 1), ("odd", None), ("Odd",),
-    ("odd ",), ("",), (("odd",),), ["odd"], [("odd",)], {"odd": 1}, ("odd", "odd"), ("much",), ("much", 0), ("much", -1),
-    ("much", True), ("much", False), ("much", None), ("much", "1"), ("much", "one"), ("much", [1]), ("much", (1,)),
-    ("much", {}), ("much", ()), ("much", 1, 1), ("much", 1, None), ("much", 2, ()), (1, "much"), (("much", 1),),
-    ["much", 1], ["much", 2], [("much", 1)], {"much": 1}, ("Much", 1), ("much ", 1), ("", 1), (None, 1), (1,), (1, 1),
-    ("much", 13), ("much", 10 ** 30 - 1), ("much", -10 ** 30 + 1), (["much"], 1), ({}, 1), ((), 1), ("mu", "ch"),
-    ("much1",), "much1", ("even",),
+    ("odd ",), ("",), (("odd",),), ["odd"], [("odd",)], {"odd": 1}, ("odd", "odd"), ("much",), ("much", 0),
+    ("much", -1), ("much", True), ("much", False), ("much", None), ("much", "1"), ("much", "one"), ("much", [1]),
+    ("much", (1,)), ("much", {}), ("much", ()), ("much", 1, 1), ("much", 1, None), ("much", 2, ()), (1, "much"),
+    (("much", 1),), ["much", 1], ["much", 2], [("much", 1)], {"much": 1}, ("Much", 1), ("much ", 1), ("", 1), (None, 1),
+    (1,), (1, 1), ("much", 13), ("much", 10 ** 30 - 1), ("much", -10 ** 30 + 1), (["much"], 1), ({}, 1), ((), 1),
+    ("mu", "ch"), ("much1",), "much1", ("even",),
 ]
 
 

@@ -4,6 +4,8 @@ import importlib
 import inspect
 import unittest
 
+from websbykind.desk import Desk
+
 WANTED = {
     "webs": {
         "is_web": ["thing"], "is_turn": ["many", "thing"], "turned": ["web", "turn"],
@@ -37,6 +39,16 @@ WANTED = {
         "all_forms": ["many"], "form_number": ["web"], "form_at": ["many", "number"], "with_more": ["web"],
         "with_fewer": ["web"],
     },
+    "opposites": {"opposite": ["web"], "opposite_turn": ["web"], "opposite_many": ["many"]},
+    "marks": {
+        "are_marks": ["web", "thing"], "marks_turn": ["web", "one", "other"], "first_marks": ["web", "marks"],
+        "marks_many": ["web", "sorts"], "all_marks": ["web", "sorts"], "marks_with": ["web", "numbers"],
+        "marked_many": ["many", "sorts"],
+    },
+    "texts": {
+        "web_text": ["web"], "turn_text": ["many", "turn"], "read_web": ["text"], "read_turn": ["many", "text"],
+    },
+    "desk": {"Desk": []},
 }
 
 
@@ -47,6 +59,10 @@ class Interface(unittest.TestCase):
             for name, arguments in names.items():
                 with self.subTest(f"{file}.{name}"):
                     self.assertEqual(list(inspect.signature(getattr(module, name)).parameters), arguments)
+
+    def test_a_desk(self):
+        self.assertTrue(inspect.isclass(Desk))
+        self.assertEqual(list(inspect.signature(Desk().say).parameters), ["line"])
 
 
 if __name__ == "__main__":

@@ -9,11 +9,15 @@ from tests.kindwise import by_ties
 from tests.things import all_counts, all_turns, all_webs, pieces_by_ties, some_webs
 from websbykind.alike import all_alike, alike_many, first_turn, form, own_turns
 from websbykind.counts import counts_of, first_web, has_web, is_none_paper, kinds_with, none_paper, webs_with
+from websbykind.desk import Desk
 from websbykind.forms import all_forms, form_number, with_fewer, with_more
 from websbykind.growing import all_codes, all_trees, trees_many
 from websbykind.hanging import gathered, hanging_by_ties, hanging_many, hangs, parted, parts
 from websbykind.kinds import all_kinds, turns_many
+from websbykind.marks import all_marks, are_marks, first_marks, marked_many, marks_many, marks_turn, marks_with
+from websbykind.opposites import opposite, opposite_many, opposite_turn
 from websbykind.pairs import standing_by_ties, standing_many, stands, webs_by_ties, webs_many
+from websbykind.texts import read_web, turn_text
 from websbykind.trees import code_from, freed, is_tree, tree_by, tree_code
 from websbykind.webs import back, behind, kind_of, turned
 
@@ -266,6 +270,88 @@ class CountsAndForms(unittest.TestCase):
             orders = {counts: len(set(itertools.permutations(counts))) for counts in all_counts(many)}
             webs = sum(orders[counts] * webs_with(counts) for counts in all_counts(many))
             self.assertEqual(webs, 2 ** (many * (many - 1) // 2))
+
+
+class Opposites(unittest.TestCase):
+    def test_the_opposite_of_the_opposite_is_the_web(self):
+        for many in range(1, 7):
+            for web in some_webs(many):
+                self.assertEqual(opposite(opposite(web)), web)
+                self.assertEqual(len(own_turns(opposite(web))), len(own_turns(web)))
+
+    def test_a_web_that_is_its_opposites_like_has_half_of_all_ties(self):
+        alike = 0
+        for many in range(1, 6):
+            for web in all_webs(many)[::1 if many < 5 else 3]:
+                turn = opposite_turn(web)
+                self.assertEqual(turn is None, form(web) != form(opposite(web)))
+                if turn is not None:
+                    alike += 1
+                    self.assertEqual(2 * len(web[1]), many * (many - 1) // 2)
+                    self.assertEqual(turned(opposite(web), turn), web)
+        self.assertGreater(alike, 12)
+
+    def test_counted_as_many_as_there_are(self):
+        for many in range(1, 6):
+            alike = [web for web in all_forms(many) if opposite_turn(web) is not None]
+            self.assertEqual(len(alike), opposite_many(many))
+
+    def test_none_where_half_of_all_ties_is_no_whole_number(self):
+        for many in range(1, 10):
+            self.assertTrue(many * (many - 1) // 2 % 2 == 0 or opposite_many(many) == 0)
+
+    def test_counts_of_the_opposite_are_what_the_counts_lack(self):
+        for many in range(1, 7):
+            for web in some_webs(many):
+                lacking = tuple(many - 1 - count for count in reversed(counts_of(web)))
+                self.assertEqual(counts_of(opposite(web)), lacking)
+
+
+class WebsAndMarks(unittest.TestCase):
+    def test_marks_of_one_sort_are_of_one_kind(self):
+        for many in range(1, 7):
+            for web in some_webs(many):
+                self.assertEqual(marks_many(web, 1), 1)
+                self.assertEqual(all_marks(web, 1), [(0,) * many])
+                self.assertEqual(marks_with(web, (many, 0, 0, 0)), 1)
+
+    def test_webs_with_marks_of_one_sort_are_all_kinds_of_webs(self):
+        for many in range(1, 10):
+            self.assertEqual(marked_many(many, 1), webs_many(many))
+
+    def test_kinds_of_webs_with_marks_are_the_kinds_of_marks_of_all_forms(self):
+        for many in range(1, 6):
+            for sorts in range(1, 5):
+                kinds = sum(marks_many(web, sorts) for web in all_forms(many))
+                self.assertEqual(marked_many(many, sorts), kinds)
+
+    def test_marks_are_alike_just_where_the_first_ones_are_the_same(self):
+        for web in all_forms(4) + all_forms(5)[::6]:
+            choices = list(itertools.product(range(4), repeat=web[0]))
+            for one in choices[::31]:
+                for other in choices[5::57] + [first_marks(web, one)]:
+                    same = first_marks(web, one) == first_marks(web, other)
+                    self.assertEqual(marks_turn(web, one, other) is not None, same)
+
+    def test_each_kind_is_listed_once(self):
+        for web in all_forms(4) + all_forms(5)[::6]:
+            for sorts in range(1, 4):
+                found = all_marks(web, sorts)
+                self.assertEqual(len(found), marks_many(web, sorts))
+                self.assertEqual([first_marks(web, marks) for marks in found], found)
+                self.assertTrue(all(are_marks(web, marks) for marks in found))
+
+
+class Texts(unittest.TestCase):
+    def test_the_text_of_the_first_turn_leads_a_desk_there(self):
+        for many in range(2, 7):
+            for web in some_webs(many)[::1 if many < 5 else 9]:
+                desk = Desk()
+                desk.say(f"places {many}")
+                for tie in web[1]:
+                    desk.say(f"tie {tie[0]} {tie[1]}")
+                desk.say("turn " + turn_text(many, first_turn(web, form(web))))
+                self.assertEqual(read_web(desk.say("web")), form(web))
 
 
 if __name__ == "__main__":

@@ -149,7 +149,8 @@ class CodeFrom(Refusals, unittest.TestCase):
     def test_by_hand(self):
         self.assertEqual(code_from((1, ()), 0), "()")
         self.assertEqual(code_from((2, ((0, 1),)), 1), "(())")
-        self.assertEqual([code_from((3, ((0, 1), (1, 2))), place) for place in range(3)], ["((()))", "(()())", "((()))"])
+        row = (3, ((0, 1), (1, 2)))
+        self.assertEqual([code_from(row, place) for place in range(3)], ["((()))", "(()())", "((()))"])
         self.assertEqual(code_from(ROW_OF_FIVE, 1), "(((()))())")
         self.assertEqual(code_from(STAR_OF_SIX, 4), "(()()()()())")
         self.assertEqual(code_from(STAR_OF_SIX, 0), "((()()()()))")

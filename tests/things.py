@@ -56,6 +56,10 @@ NO_WEBS = [
 ]
 
 
+# Figures of other scripts, raised and ringed ones: Python takes some of them for figures.
+OTHER_FIGURES = ["\u0663", "\u0967", "\uff13", "\u00b2", "\u2462", "\u0e53"]
+
+
 def no_webs():
     return NO_WEBS + anything()
 

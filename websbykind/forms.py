@@ -1,7 +1,7 @@
 """All forms of webs of few places, in order, and those that come of one another by a tie."""
 
 from websbykind.alike import form
-from websbykind.webs import must_be_web, pairs_of
+from websbykind.webs import must_be_web, pairs_of, with_tie, without_tie
 from websbykind.whole import must_be_few, must_be_within
 
 MOST_FORMED = 5
@@ -42,11 +42,10 @@ def with_more(web):
     """The forms that come of the web where one tie is put in, a rising list."""
     must_be_formed(web)
     many, ties = web
-    return sorted({form((many, tuple(sorted(ties + (pair,))))) for pair in pairs_of(many) if pair not in ties})
+    return sorted({form(with_tie(web, pair)) for pair in pairs_of(many) if pair not in ties})
 
 
 def with_fewer(web):
     """The forms that come of the web where one tie is taken out, a rising list."""
     must_be_formed(web)
-    many, ties = web
-    return sorted({form((many, ties[:at] + ties[at + 1:])) for at in range(len(ties))})
+    return sorted({form(without_tie(web, tie)) for tie in web[1]})

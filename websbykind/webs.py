@@ -67,6 +67,18 @@ def tie_of(a, b):
     return (a, b) if a < b else (b, a)
 
 
+def with_tie(web, tie):
+    """The web with one tie more."""
+    many, ties = web
+    return (many, tuple(sorted(ties + (tie,))))
+
+
+def without_tie(web, tie):
+    """The web with one tie fewer."""
+    many, ties = web
+    return (many, tuple([other for other in ties if other != tie]))
+
+
 def pairs_of(many):
     """All pairs (a, b) of so many places, a less than b, a rising list."""
     return [(a, b) for a in range(many) for b in range(a + 1, many)]
